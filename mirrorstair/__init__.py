@@ -1,0 +1,1 @@
+"""Mirrorstair: programs read by programs, level on level."""
