@@ -1,8 +1,8 @@
 """Stairs: levels that are told lines."""
 
 from mirrorstair.data import data_text, read_data
-from mirrorstair.errors import NoBack, NoKind, NoLevel
-from mirrorstair.levels import Levels, is_kind
+from mirrorstair.errors import NoBack, NoLevel
+from mirrorstair.levels import Levels
 from mirrorstair.machine import Run
 from mirrorstair.values import is_number
 from mirrorstair.written import written
@@ -13,7 +13,10 @@ TOP = 12
 
 
 def reader_of(kind):
-    """The function to which the reader written out for a kind comes, on a stair of its own."""
+    """The function to which the reader written out for a kind comes, on a stair of its own.
+
+    What is no kind is refused by written.
+    """
     run = Run(Levels(), None, read_data(written(kind)))
     return run.finish(MOST, None)
 
@@ -68,10 +71,9 @@ class Stair:
         top = TOP if self.height is None else min(TOP, self.height)
         if not is_number(level) or not 1 <= level <= top:
             raise NoLevel("no level that has a table")
-        if not is_kind(kind):
-            raise NoKind("no kind, and not give")
+        reader = reader_of(kind)
         levels = self.levels.copy()
-        levels.change(level, kind, reader_of(kind))
+        levels.change(level, kind, reader)
         self.settle(levels, self.steps, self.reached)
 
     def copy(self):

@@ -93,6 +93,6 @@ def same(one, other):
             if len(here) != len(there):
                 return False
             left.extend(list(zip(here, there)))
-        elif is_list(here) or is_list(there) or not same_leaf(here, there):
+        elif not same_leaf(here, there):
             return False
     return True

@@ -52,7 +52,7 @@ RESULTS = (
     ("(join 1 ())", "(1)"), ("(join (say (1)) (say (2 3)))", "((1) 2 3)"), ("(join plus (say (2)))", "(<.plus> 2)"),
     ("(count ())", "0"), ("(count (say (a (b c) d)))", "3"),
     ("(part (say (a b c)) 0)", "a"), ("(part (say (a b c)) 2)", "c"), ("(part (say (a b c)) 3)", "!sort"),
-    ("(part (say (a b c)) -1)", "!sort"), ("(part () 0)", "!sort"), ("(part (say (a b)) no)", "!sort"),
+    ("(part (say (a b c)) -1)", "!sort"), ("(part () 0)", "!sort"), ("(part (say abc) 0)", "!sort"), ("(part (say (a b)) no)", "!sort"),
     ("(is (say numbers) 1)", "!sort"), ("(is (say name) 1)", "!sort"), ("(is (say empty) ())", "!sort"),
     ("(fault (say abc))", "!abc"),
     ("(here (say (plus x 1)) (say ((x 4))))", "5"), ("(here (say x) ())", "!unknown"),
