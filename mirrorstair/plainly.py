@@ -24,10 +24,15 @@ def read_say(run, level, thing, room):
     return told(thing[1])
 
 
+def wait_for_part(run, kind, level, thing, room, at):
+    """Read one part of a list of one of the seven words; the list waits for its value."""
+    want_shape(thing, kind)
+    run.frames.append((kind, level, thing, room, []))
+    return (READ, level, thing[at], room)
+
+
 def read_if(run, level, thing, room):
-    want_shape(thing, "if")
-    run.frames.append(("if", level, thing, room, []))
-    return (READ, level, thing[1], room)
+    return wait_for_part(run, "if", level, thing, room, 1)
 
 
 def read_fun(run, level, thing, room):
@@ -35,21 +40,15 @@ def read_fun(run, level, thing, room):
 
 
 def read_let(run, level, thing, room):
-    want_shape(thing, "let")
-    run.frames.append(("let", level, thing, room, []))
-    return (READ, level, thing[2], room)
+    return wait_for_part(run, "let", level, thing, room, 2)
 
 
 def read_hold(run, level, thing, room):
-    want_shape(thing, "hold")
-    run.frames.append(("hold", level, thing, room, []))
-    return (READ, level, thing[2], room)
+    return wait_for_part(run, "hold", level, thing, room, 2)
 
 
 def read_heed(run, level, thing, room):
-    want_shape(thing, "heed")
-    run.frames.append(("heed", level, thing, room, []))
-    return (READ, level, thing[1], room)
+    return wait_for_part(run, "heed", level, thing, room, 1)
 
 
 def read_up(run, level, thing, room):
