@@ -4,6 +4,7 @@ Each action takes the run, the level and the values, already counted, and tells 
 """
 
 from mirrorstair.errors import Fault
+from mirrorstair.frames import wait_for
 from mirrorstair.levels import is_kind
 from mirrorstair.names import TAKES, TAKES_BELOW, name_value
 from mirrorstair.orders import GIVE, HAND, PLAIN, READ, told
@@ -126,8 +127,7 @@ def do_reads(run, level, values):
     want_room(room)
     if not things:
         return told(())
-    run.frames.append(("reads", level - 1, things, room, []))
-    return (READ, level - 1, things[0], room)
+    return wait_for(run, "reads", level - 1, things, room, 0, None)
 
 
 def do_give(run, level, values):
@@ -158,14 +158,14 @@ def do_look(run, level, values):
 def do_keep(run, level, values):
     word, value = values
     want_sort(is_word(word))
-    run.levels.keep(level - 1, word, value)
+    run.levels = run.levels.with_word(level - 1, word, value)
     return told(value)
 
 
 def do_change(run, level, values):
     kind, value = values
     want_sort(is_kind(kind) and (is_fun(value) or value is False))
-    run.levels.change(level, kind, value)
+    run.change(level, kind, value)
     return told(value)
 
 

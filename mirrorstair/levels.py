@@ -1,5 +1,9 @@
 """What the levels of a stair keep: held words and tables."""
 
+from mirrorstair.data import data_text
+
+# The greatest level, but for what comes above it on the way.
+TOP = 12
 KINDS = ("name", "say", "if", "fun", "let", "hold", "heed", "up", "put", "fixed", "give")
 
 
@@ -8,22 +12,16 @@ def is_kind(value):
     return isinstance(value, str) and value in KINDS
 
 
-def copied(rows):
-    return {level: dict(rows[level]) for level in rows}
-
-
 class Levels:
-    """The held words of all levels, and the tables by which the levels below are read."""
+    """The held words of all levels, and the tables by which the levels below are read.
 
-    def __init__(self):
-        self.words = {}
-        self.tables = {}
+    Both are dicts by level. Levels are never changed, others are put in their place: so those of
+    an earlier line or step stay as they were, and may be shared.
+    """
 
-    def copy(self):
-        other = Levels()
-        other.words = copied(self.words)
-        other.tables = copied(self.tables)
-        return other
+    def __init__(self, words, tables):
+        self.words = words
+        self.tables = tables
 
     def words_at(self, level):
         """The dict of the words held at a level, only to be looked at."""
@@ -33,14 +31,31 @@ class Levels:
         """The dict of the readers in the table of a level, only to be looked at."""
         return self.tables.get(level, {})
 
-    def keep(self, level, word, value):
-        words = self.words.setdefault(level, {})
-        words[word] = value
+    def held_texts(self, level):
+        """The words held at a level, sorted, with the texts of their values."""
+        words = self.words_at(level)
+        return {word: data_text(words[word]) for word in sorted(words)}
 
-    def change(self, level, kind, value):
-        """Put a reader into the table of a level; False takes it out."""
-        table = self.tables.setdefault(level, {})
-        if value is False:
+    def reader_kinds(self, level):
+        """The kinds, and give, for which the table of a level has a reader, sorted."""
+        return sorted(self.table_at(level))
+
+    def with_word(self, level, word, value):
+        """Levels where this value is held for a word."""
+        words = {**self.words_at(level), word: value}
+        return Levels({**self.words, level: words}, self.tables)
+
+    def with_reader(self, level, kind, reader):
+        """Levels with a reader in the table of one of them; False takes it out."""
+        table = dict(self.table_at(level))
+        tables = dict(self.tables)
+        if reader is False:
             table.pop(kind, None)
         else:
-            table[kind] = value
+            table[kind] = reader
+        # No empty table stays, so that tables that have the same readers are the same dicts.
+        if table:
+            tables[level] = table
+        else:
+            tables.pop(level, None)
+        return Levels(self.words, tables)

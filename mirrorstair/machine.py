@@ -10,44 +10,49 @@ from mirrorstair.plainly import go_on, heed_fault, read_plainly
 class Run:
     """A thing that is read at level 0 in the empty room.
 
-    It changes the levels that it is handed, and keeps what waits in frames of its own, so that
-    things within one another may be as many as steps.
+    It keeps what waits in frames of its own, so that things within one another may be as many as
+    steps. Its levels, frames and orders are never changed, only put in the place of others, so a
+    copy shares them.
     """
 
     def __init__(self, levels, height, thing):
         self.levels = levels
         self.height = height
-        self.frames = []
+        self.frames = None
         self.order = (READ, 0, thing, ())
         self.steps = 0
         self.reached = 0
 
+    def copy(self):
+        """A run of its own that did the same steps."""
+        other = Run(self.levels, self.height, ())
+        other.frames = self.frames
+        other.order = self.order
+        other.steps = self.steps
+        other.reached = self.reached
+        return other
+
     def is_over(self):
         return self.order[0] == VALUE or self.order[0] == FAULT
 
-    def next_kind(self):
+    def next_way(self):
+        """The kind of the next step, and the reader in the table above for it, None where it is done plainly."""
         what, level, thing, beside = self.order
-        if what == GIVE:
-            return "give"
-        return kind_of(thing)
-
-    def next_reader(self, kind):
-        """The reader in the table above for the next step, None where it is done plainly."""
-        return self.levels.table_at(self.order[1] + 1).get(kind)
+        kind = "give" if what == GIVE else kind_of(thing)
+        return kind, self.levels.table_at(level + 1).get(kind)
 
     def next_step(self):
         """The next step as a trace tells it."""
         what, level, thing, beside = self.order
-        kind = self.next_kind()
-        by = "plain" if self.next_reader(kind) is None else "table"
+        kind, reader = self.next_way()
         if what == GIVE:
             thing = (thing,) + beside
-        return (level, kind, by, data_text(thing))
+        return (level, kind, "plain" if reader is None else "table", data_text(thing))
 
     def advance(self):
         """Do the next step and all that follows it, up to the one behind it."""
         what, level, thing, beside = self.order
-        reader = self.next_reader(self.next_kind())
+        kind, reader = self.next_way()
         self.steps += 1
         self.reached = max(self.reached, level)
         if reader is not None:
@@ -59,7 +64,7 @@ class Run:
 
     def follow(self, order):
         """Do what is no step, up to the next step or the end."""
-        while order[0] == PLAIN or order[0] == HAND or (order[0] == VALUE and self.frames):
+        while order[0] == PLAIN or order[0] == HAND or (order[0] == VALUE and self.frames is not None):
             try:
                 order = self.move(order)
             except Fault as fault:
@@ -74,17 +79,25 @@ class Run:
             return hand_values(self, level, thing, beside)
         return go_on(self, thing)
 
-    def finish(self, most, rows):
+    def change(self, level, kind, reader):
+        """Put a reader into the table of a level; False takes it out."""
+        self.levels = self.levels.with_reader(level, kind, reader)
+
+    def outcome(self):
+        """The value of a line that is over; refused where a fault ended it."""
+        if self.order[0] == FAULT:
+            raise Fault(self.order[2])
+        return self.order[2]
+
+    def finish(self, most, seen):
         """Do all steps, at most as many as told, and tell the value.
 
-        What each step is goes into rows, where that is a list.
+        What each step is goes into seen, where that is a list.
         """
         while not self.is_over():
             if self.steps >= most:
                 raise TooLong(most)
-            if rows is not None:
-                rows.append(self.next_step())
+            if seen is not None:
+                seen.append(self.next_step())
             self.advance()
-        if self.order[0] == FAULT:
-            raise Fault(self.order[2])
-        return self.order[2]
+        return self.outcome()

@@ -14,6 +14,10 @@ TAKES_BELOW = {
 }
 
 
+def is_built_word(word):
+    return word in TAKES or word in TAKES_BELOW
+
+
 def name_value(levels, level, word, room):
     """What a word comes to at a level, in a room."""
     for pair in room:
@@ -22,6 +26,6 @@ def name_value(levels, level, word, room):
     words = levels.words_at(level)
     if word in words:
         return words[word]
-    if word in TAKES or word in TAKES_BELOW:
+    if is_built_word(word):
         return Built(word)
     raise Fault("unknown")

@@ -1,11 +1,11 @@
 """Reading plainly, kind by kind, and going on where a value comes to what waits for it.
 
-What waits is a frame (word, level, thing, room, values), the innermost one last in the run's frames.
 Each function tells the next order.
 """
 
 from mirrorstair.data import data_text, kind_of
 from mirrorstair.errors import Fault, TooHigh
+from mirrorstair.frames import collected, wait_for
 from mirrorstair.names import name_value
 from mirrorstair.orders import FAULT, GIVE, READ, told
 from mirrorstair.shapes import function_of, want_shape
@@ -24,15 +24,9 @@ def read_say(run, level, thing, room):
     return told(thing[1])
 
 
-def wait_for_part(run, kind, level, thing, room, at):
-    """Read one part of a list of one of the seven words; the list waits for its value."""
-    want_shape(thing, kind)
-    run.frames.append((kind, level, thing, room, []))
-    return (READ, level, thing[at], room)
-
-
 def read_if(run, level, thing, room):
-    return wait_for_part(run, "if", level, thing, room, 1)
+    want_shape(thing, "if")
+    return wait_for(run, "if", level, thing, room, 1, None)
 
 
 def read_fun(run, level, thing, room):
@@ -40,15 +34,18 @@ def read_fun(run, level, thing, room):
 
 
 def read_let(run, level, thing, room):
-    return wait_for_part(run, "let", level, thing, room, 2)
+    want_shape(thing, "let")
+    return wait_for(run, "let", level, thing, room, 2, None)
 
 
 def read_hold(run, level, thing, room):
-    return wait_for_part(run, "hold", level, thing, room, 2)
+    want_shape(thing, "hold")
+    return wait_for(run, "hold", level, thing, room, 2, None)
 
 
 def read_heed(run, level, thing, room):
-    return wait_for_part(run, "heed", level, thing, room, 1)
+    want_shape(thing, "heed")
+    return wait_for(run, "heed", level, thing, room, 1, None)
 
 
 def read_up(run, level, thing, room):
@@ -60,8 +57,7 @@ def read_up(run, level, thing, room):
 
 
 def read_put(run, level, thing, room):
-    run.frames.append(("put", level, thing, room, []))
-    return (READ, level, thing[0], room)
+    return wait_for(run, "put", level, thing, room, 0, None)
 
 
 READS = {
@@ -77,22 +73,20 @@ def read_plainly(run, level, thing, room):
 
 
 def after_if(run, frame, value):
-    word, level, thing, room, values = frame
     if value is True:
-        return (READ, level, thing[2], room)
+        return (READ, frame.level, frame.thing[2], frame.room)
     if value is False:
-        return (READ, level, thing[3], room)
+        return (READ, frame.level, frame.thing[3], frame.room)
     raise Fault("choice")
 
 
 def after_let(run, frame, value):
-    word, level, thing, room, values = frame
-    return (READ, level, thing[3], ((thing[1], value),) + room)
+    room = ((frame.thing[1], value),) + frame.room
+    return (READ, frame.level, frame.thing[3], room)
 
 
 def after_hold(run, frame, value):
-    word, level, thing, room, values = frame
-    run.levels.keep(level, thing[1], value)
+    run.levels = run.levels.with_word(frame.level, frame.thing[1], value)
     return told(value)
 
 
@@ -101,32 +95,32 @@ def after_heed(run, frame, value):
 
 
 def after_heeded(run, frame, value):
-    # The thing of this frame is the word of the fault.
-    word, level, thing, room, values = frame
-    return (GIVE, level, value, (thing,))
+    # What such a frame had ahead is the word of the fault.
+    return (GIVE, frame.level, value, collected(frame.done))
 
 
-def next_part(run, frame):
+def is_last(frame):
+    return frame.at + 1 == len(frame.thing)
+
+
+def next_part(run, frame, done):
     """Wait on for the next part of a list of which some are read."""
-    word, level, thing, room, values = frame
-    run.frames.append(frame)
-    return (READ, level, thing[len(values)], room)
+    return wait_for(run, frame.word, frame.level, frame.thing, frame.room, frame.at + 1, done)
 
 
 def after_put(run, frame, value):
-    word, level, thing, room, values = frame
-    values.append(value)
-    if len(values) < len(thing):
-        return next_part(run, frame)
-    return (GIVE, level, values[0], tuple(values[1:]))
+    done = (value, frame.done)
+    if not is_last(frame):
+        return next_part(run, frame, done)
+    values = collected(done)
+    return (GIVE, frame.level, values[0], values[1:])
 
 
 def after_reads(run, frame, value):
-    word, level, thing, room, values = frame
-    values.append(value)
-    if len(values) < len(thing):
-        return next_part(run, frame)
-    return told(tuple(values))
+    done = (value, frame.done)
+    if not is_last(frame):
+        return next_part(run, frame, done)
+    return told(collected(done))
 
 
 AFTER = {
@@ -137,16 +131,19 @@ AFTER = {
 
 def go_on(run, value):
     """Hand a value to the innermost that waits for one."""
-    frame = run.frames.pop()
-    action = AFTER[frame[0]]
+    frame = run.frames
+    run.frames = frame.outer
+    action = AFTER[frame.word]
     return action(run, frame, value)
 
 
 def heed_fault(run, fault):
     """Go on behind a fault of this word at the nearest heed around; where there is none, end."""
-    while run.frames:
-        word, level, thing, room, values = run.frames.pop()
-        if word == "heed":
-            run.frames.append(("heeded", level, fault, room, []))
-            return (READ, level, thing[2], room)
-    return (FAULT, 0, fault, ())
+    frame = run.frames
+    while frame is not None and frame.word != "heed":
+        frame = frame.outer
+    if frame is None:
+        run.frames = None
+        return (FAULT, 0, fault, ())
+    run.frames = frame.outer
+    return wait_for(run, "heeded", frame.level, frame.thing, frame.room, 2, (fault, None))

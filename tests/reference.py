@@ -1,5 +1,7 @@
 """The rules once more, read off the document as plainly as can be, by recursion: to be compared with."""
 
+import contextlib
+
 from mirrorstair.data import data_text, kind_of
 from mirrorstair.values import Built, Fun
 
@@ -71,11 +73,26 @@ class Reference:
         self.steps = 0
         self.reached = 0
         self.rows = []
+        # What waits, the outermost first, and how all stood ahead of each step of the last line.
+        self.waits = []
+        self.marks = []
+
+    @contextlib.contextmanager
+    def waiting(self, level, word):
+        self.waits.append((level, word))
+        try:
+            yield
+        finally:
+            self.waits.pop()
+
+    def mark(self):
+        return self.waits[::-1], dict(self.held), dict(self.tables)
 
     def step(self, level, kind, shown):
         if self.steps >= self.most:
             raise Long()
         self.steps += 1
+        self.marks.append(self.mark())
         self.reached = max(self.reached, level)
         reader = self.tables.get((level + 1, kind))
         self.rows.append((level, kind, "plain" if reader is None else "table", data_text(shown)))
@@ -116,7 +133,8 @@ class Reference:
 
     def plain_if(self, level, thing, room):
         shape(len(thing) == 4)
-        asked = self.read(level, thing[1], room)
+        with self.waiting(level, "if"):
+            asked = self.read(level, thing[1], room)
         if type(asked) is not bool:
             raise Wrong("choice")
         return self.read(level, thing[2] if asked else thing[3], room)
@@ -129,22 +147,27 @@ class Reference:
 
     def plain_let(self, level, thing, room):
         shape(len(thing) == 4 and type(thing[1]) is str)
-        value = self.read(level, thing[2], room)
+        with self.waiting(level, "let"):
+            value = self.read(level, thing[2], room)
         return self.read(level, thing[3], ((thing[1], value),) + room)
 
     def plain_hold(self, level, thing, room):
         shape(len(thing) == 3 and type(thing[1]) is str)
-        value = self.read(level, thing[2], room)
+        with self.waiting(level, "hold"):
+            value = self.read(level, thing[2], room)
         self.held[level, thing[1]] = value
         return value
 
     def plain_heed(self, level, thing, room):
         shape(len(thing) == 3)
         try:
-            return self.read(level, thing[1], room)
+            with self.waiting(level, "heed"):
+                return self.read(level, thing[1], room)
         except Wrong as wrong:
             word = wrong.word
-        return self.give(level, self.read(level, thing[2], room), (word,))
+        with self.waiting(level, "heeded"):
+            value = self.read(level, thing[2], room)
+        return self.give(level, value, (word,))
 
     def plain_up(self, level, thing, room):
         shape(len(thing) == 2)
@@ -153,7 +176,8 @@ class Reference:
         return self.read(level + 1, thing[1], ())
 
     def plain_put(self, level, thing, room):
-        values = tuple([self.read(level, part, room) for part in thing])
+        with self.waiting(level, "put"):
+            values = tuple([self.read(level, part, room) for part in thing])
         return self.give(level, values[0], values[1:])
 
     def hand(self, level, value, others):
@@ -238,7 +262,8 @@ class Reference:
     def do_reads(self, level, things, room):
         sort(type(things) is tuple)
         room_check(room)
-        return tuple([self.read(level - 1, thing, room) for thing in things])
+        with self.waiting(level - 1, "reads"):
+            return tuple([self.read(level - 1, thing, room) for thing in things])
 
     def do_give(self, level, value, others):
         sort(type(others) is tuple)
@@ -276,10 +301,10 @@ class Reference:
         return self.tables.get((level, key), False)
 
     def tell(self, thing):
-        """The answer as helpers.told tells it; the trace is left in rows."""
+        """The answer as helpers.told tells it; the trace is left in rows, also of a line that is refused."""
         held, tables = dict(self.held), dict(self.tables)
         steps, reached = self.steps, self.reached
-        self.steps, self.reached, self.rows = 0, 0, []
+        self.steps, self.reached, self.rows, self.marks = 0, 0, [], []
         try:
             text = data_text(self.read(0, thing, ()))
         except Wrong as wrong:
@@ -288,9 +313,10 @@ class Reference:
             text = f"!high {high.level} {high.text}"
         except Long:
             text = f"!long {self.most}"
+        self.marks.append(self.mark())
         if text.startswith("!"):
             self.held, self.tables = held, tables
-            self.steps, self.reached, self.rows = steps, reached, []
+            self.steps, self.reached = steps, reached
         else:
             self.steps += steps
             self.reached = max(self.reached, reached)
