@@ -2,7 +2,7 @@
 
 from mirrorstair.data import kind_of
 from mirrorstair.trees import folded
-from mirrorstair.values import Built, Fun, is_list, sort_of
+from mirrorstair.values import Built, Fun, is_list, is_truth
 
 
 def parts_of(value):
@@ -14,10 +14,10 @@ def parts_of(value):
 
 
 def leaf_key(value):
-    # The sort stands ahead, for Python takes a truth and a number for the same.
     if isinstance(value, Built):
         return ("built", value.word)
-    return (sort_of(value), value)
+    # Python takes a truth and a number for the same.
+    return (is_truth(value), value)
 
 
 class Numbers:

@@ -1,6 +1,8 @@
 """The rules once more, read off the document as plainly as can be, by recursion: to be compared with."""
 
 import contextlib
+import sys
+import unittest
 
 from mirrorstair.data import data_text, kind_of
 from mirrorstair.values import Built, Fun
@@ -9,6 +11,14 @@ TWO = ("plus minus times less alike join part is here read plain reads give hand
 ONE = "first rest count fault reader".split()
 BELOW = "read plain reads give hand made look keep change reader".split()
 KEYS = "name say if fun let hold heed up put fixed give".split()
+
+
+class DeepCalls(unittest.TestCase):
+    """Tests in which the reference may call itself as deeply as lines want."""
+
+    def setUp(self):
+        self.addCleanup(sys.setrecursionlimit, sys.getrecursionlimit())
+        sys.setrecursionlimit(20000)
 
 
 class Wrong(Exception):

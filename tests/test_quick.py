@@ -1,6 +1,5 @@
 """Points 4 and 17: the quick machine."""
 
-import sys
 import unittest
 from unittest import mock
 
@@ -11,7 +10,7 @@ from mirrorstair.stair import Stair
 from tests import helpers, test_built, test_reading, test_stair, test_written
 from tests.helpers import LOOP, MANY, READERS, all_state, state, told, traced
 from tests.programs import Maker
-from tests.reference import Reference
+from tests.reference import DeepCalls, Reference
 
 CHANGE = "(up (change (say if) (fun (t r) (plain t r))))"
 CHANGE_BACK = "(up (change (say if) no))"
@@ -358,15 +357,8 @@ class Made(unittest.TestCase):
         self.made(6, "(up (read (say 5) ()))")
 
 
-class MadeByChance(unittest.TestCase):
+class MadeByChance(DeepCalls):
     """As many rows as unlike things were read at unlike levels, from one change of a table to the next."""
-
-    def setUp(self):
-        self.limit = sys.getrecursionlimit()
-        sys.setrecursionlimit(20000)
-
-    def tearDown(self):
-        sys.setrecursionlimit(self.limit)
 
     def test_rows(self):
         compared = sum([self.compare(seed) for seed in range(150)])

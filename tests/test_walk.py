@@ -1,6 +1,5 @@
 """Points 20, 21 and 22: lines walked step by step."""
 
-import sys
 import unittest
 
 from mirrorstair.data import data_text, read_data
@@ -10,7 +9,7 @@ from mirrorstair.stair import Stair
 from mirrorstair.walk import Walk
 from tests.helpers import LOOP, MANY, READERS, all_state, state, told
 from tests.programs import Maker
-from tests.reference import Reference
+from tests.reference import DeepCalls, Reference
 
 NO_NUMBERS = (True, False, None, "1", 1.0, (), [], [1], {}, -1, -200)
 LEVELS = 5
@@ -70,15 +69,8 @@ def whole(walk):
     return looks, rows
 
 
-class AgainstTheRules(unittest.TestCase):
+class AgainstTheRules(DeepCalls):
     """Each step of lines made by chance, against the rules read off the document by recursion."""
-
-    def setUp(self):
-        self.limit = sys.getrecursionlimit()
-        sys.setrecursionlimit(20000)
-
-    def tearDown(self):
-        sys.setrecursionlimit(self.limit)
 
     def standing(self, walk, mark):
         waits, held, tables = mark

@@ -1,13 +1,15 @@
 """Point 4, the whole: rows of lines made by chance, on stairs of all heights, with and without readers written out."""
 
-import sys
 import unittest
 
 from mirrorstair.data import data_text, read_data
+from mirrorstair.errors import StairError
+from mirrorstair.frozen import frozen
+from mirrorstair.quick import Quick
 from mirrorstair.stair import Stair
-from tests.helpers import READERS, state, told, traced
+from tests.helpers import READERS, all_state, state, told, traced
 from tests.programs import Maker
-from tests.reference import Reference
+from tests.reference import DeepCalls, Reference
 
 MOST = 1500
 
@@ -31,15 +33,8 @@ def reference_state(reference, levels=6):
     return held, readers, reference.steps, reference.reached, reference.height
 
 
-class AgainstTheRules(unittest.TestCase):
+class AgainstTheRules(DeepCalls):
     """Every stair does what the rules say, read off the document by recursion."""
-
-    def setUp(self):
-        self.limit = sys.getrecursionlimit()
-        sys.setrecursionlimit(20000)
-
-    def tearDown(self):
-        sys.setrecursionlimit(self.limit)
 
     def compare(self, seed, height, most):
         maker = Maker(seed, 3)
@@ -156,3 +151,61 @@ class WrittenOut(unittest.TestCase):
             pairs = [(level, kind) for level in (1, 2, 3, 4, 12) for kind in READERS]
             same += self.compare(7000 + seed, chance.sample(pairs, 1 + seed % 12), 60000)
         self.assertGreater(same, 200)
+
+
+class TakenBack(unittest.TestCase):
+    """Point 4: whatever is taken back, on whatever copy, a stair is as one that was told the lines left."""
+
+    def told_all(self, kind, height, doings):
+        stair = kind(height=height)
+        for what, more in doings:
+            self.do(stair, what, more)
+        return stair
+
+    def do(self, stair, what, more):
+        """Whether it was answered."""
+        try:
+            if what == "write":
+                stair.write(*more)
+            else:
+                stair.tell(more, most=MOST)
+        except StairError:
+            return False
+        return True
+
+    def one_turn(self, maker, stairs):
+        """One of some stairs that go by turns does something; each is a list of class, stair, and what it was told."""
+        chance = maker.chance
+        one = chance.choice(stairs)
+        kind, stair, doings = one
+        way = chance.choice(("tell", "tell", "tell", "write", "back", "copy"))
+        if way == "tell":
+            line = maker.line()
+            if self.do(stair, "tell", line):
+                doings.append(("tell", line))
+        elif way == "write":
+            more = (chance.randrange(1, 4), chance.choice(READERS))
+            if self.do(stair, "write", more):
+                doings.append(("write", more))
+        elif way == "back":
+            many = chance.randrange(len(doings) + 1)
+            stair.back(many=many)
+            del doings[len(doings) - many:]
+        elif len(stairs) < 5:
+            stairs.append([kind, stair.copy(), list(doings)])
+
+    def test_by_turns(self):
+        for seed in range(40):
+            maker = Maker(8000 + seed, 2)
+            height = (None, 2, 3)[seed % 3]
+            stairs = [[kind, kind(height=height), []] for kind in (Stair, Quick)]
+            for at in range(25):
+                self.one_turn(maker, stairs)
+            for kind, stair, doings in stairs:
+                self.assertIs(kind, type(stair))
+                other = self.told_all(kind, height, doings)
+                self.assertEqual(all_state(other), all_state(stair))
+                self.assertEqual(frozen(other), frozen(stair))
+                line = maker.line()
+                self.assertEqual(traced(other, line, most=MOST), traced(stair, line, most=MOST))
+                self.assertEqual(told(other, line, most=MOST), told(stair, line, most=MOST))
